@@ -17,7 +17,7 @@ class PackageTest(unittest.TestCase):
 
     def test_it_is_all_there(self):
         names = [name for name, tree in trees()]
-        for name in ("__init__.py", "errors.py", "placing.py", "settings.py"):
+        for name in ("__init__.py", "errors.py", "settings.py", "placing.py", "answers.py", "judging.py", "making.py"):
             self.assertIn(name, names)
 
     def test_it_imports_only_from_itself(self):

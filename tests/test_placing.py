@@ -7,6 +7,7 @@ import unittest
 
 from queenrows.errors import BadPlace, BadSize, NoSetting
 from queenrows.placing import column, row_of, setting
+from tests.boards import take
 from tests.kinds import no_numbers
 from tests.refusals import Refusals
 
@@ -14,11 +15,6 @@ ROOT = pathlib.Path(__file__).resolve().parent.parent
 LISTED = [1] + list(range(4, 201))
 # Each remainder by 12 stands behind each of these, and the last has more figures than Python writes out.
 GREAT = [start + more for start in (10**6, 10**9 + 6, 10**40, 7 * 10**61, 2**300, 10**5000) for more in range(12)]
-
-
-def take(one_row, one_column, other_row, other_column):
-    apart = abs(one_row - other_row)
-    return one_column == other_column or abs(one_column - other_column) == apart
 
 
 def at_peace(rows, columns):

@@ -1,7 +1,7 @@
 import unittest
 
-from queenrows.settings import is_number, is_place, is_size
-from tests.kinds import no_numbers
+from queenrows.settings import is_number, is_place, is_setting, is_size
+from tests.kinds import no_numbers, no_settings
 
 
 class SettingsTest(unittest.TestCase):
@@ -22,6 +22,13 @@ class SettingsTest(unittest.TestCase):
                 self.assertIs(is_place(size, value), True)
             for value in (-size, -1, size, size + 1):
                 self.assertIs(is_place(size, value), False)
+
+    def test_settings(self):
+        for value in ([0], [0, 0], [1, 0], [2, 2, 2], [1, 3, 0, 2], list(range(200)), [300] * 301):
+            self.assertIs(is_setting(value), True)
+        for at, value in enumerate(no_settings()):
+            with self.subTest(at=at):
+                self.assertIs(is_setting(value), False)
 
     def test_what_is_no_number_is_no_size_and_no_place(self):
         for at, value in enumerate(no_numbers()):
